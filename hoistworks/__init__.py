@@ -1,0 +1,1 @@
+"""Hoistworks: hoists of ropes, hanging rollers and weights."""
