@@ -1,5 +1,7 @@
 """Fractions: tuples (top, bottom) without a common divisor above one, the bottom above nought."""
 
+NOUGHT = (0, 1)
+
 
 def common_divisor(one, other):
     divisor = abs(one)

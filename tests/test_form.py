@@ -29,6 +29,8 @@ TWO_UNDERSCORES = ("__init__", "__eq__", "__repr__", "__str__", "__len__")
 WORDS_OUT = re.compile(
     r"\b(type|typing|typing_extensions|enum|Enum|IntEnum|StrEnum|Flag|IntFlag|Generic|Protocol|ABC|ABCMeta|namedtuple"
     r"|NamedTuple|TypedDict|TYPE_CHECKING|abstractmethod)\b|dataclass|overload|contextmanager")
+WALKED = ("zip", "enumerate", "reversed", "range")
+WALKERS = ("list", "tuple", "dict", "sorted", "sum", "any", "all", "enumerate", "zip", "min", "max")
 NAMES_OUT = ("register", "mro", "elements", "open", "input", "version_info", "with_traceback", "add_note", "format",
              "format_map")
 
@@ -43,6 +45,20 @@ def nodes(*kinds):
         for node in ast.walk(ast.parse(text)):
             if isinstance(node, kinds):
                 yield f"{path.name}:{getattr(node, 'lineno', '?')}", node
+
+
+def called(node):
+    """The plain name that is called, if the node is such a call."""
+    return node.func.id if isinstance(node, ast.Call) and isinstance(node.func, ast.Name) else None
+
+
+def bound_names(tree):
+    """The parameters and locals of all defs."""
+    for node in ast.walk(tree):
+        if isinstance(node, ast.arg):
+            yield node.arg
+        elif isinstance(node, ast.Name) and isinstance(node.ctx, ast.Store) and node.col_offset:
+            yield node.id
 
 
 class FormTest(unittest.TestCase):
@@ -114,6 +130,73 @@ class FormTest(unittest.TestCase):
         for place, node in nodes(ast.Call):
             if isinstance(node.func, ast.Attribute):
                 self.assertIn(node.func.attr, sorted(methods) + OWN_METHODS, place)
+
+    def test_comprehensions_and_annotations(self):
+        for place, node in nodes(ast.ListComp):
+            self.assertEqual(len(node.generators), 1, place)
+            self.assertLessEqual(len(node.generators[0].ifs), 1, place)
+        for place, node in nodes(ast.FunctionDef):
+            self.assertIsNone(node.returns, place)
+        for place, node in nodes(ast.arg):
+            self.assertIsNone(node.annotation, place)
+
+    def test_each_name_once(self):
+        for path, text in files():
+            tree = ast.parse(text)
+            imports = [alias.name for node in tree.body if isinstance(node, ast.ImportFrom) for alias in node.names]
+            defs = [node.name for node in tree.body if isinstance(node, (ast.FunctionDef, ast.ClassDef))]
+            values = [node.targets[0].id for node in tree.body if isinstance(node, ast.Assign)]
+            tops = imports + defs + values
+            self.assertEqual(sorted(tops), sorted(set(tops)), path)
+            self.assertEqual(set(bound_names(tree)) & set(tops), set(), path)
+
+    def test_names_are_drawn_from_the_file_that_defines_them(self):
+        defined = {}
+        for path, text in files():
+            for node in ast.parse(text).body:
+                if isinstance(node, (ast.FunctionDef, ast.ClassDef)):
+                    defined[node.name, "hoistworks." + path.stem] = True
+                elif isinstance(node, ast.Assign):
+                    defined[node.targets[0].id, "hoistworks." + path.stem] = True
+        for place, node in nodes(ast.ImportFrom):
+            for alias in node.names:
+                self.assertIn((alias.name, node.module), defined, place)
+                self.assertIsNone(alias.asname, place)
+
+    def test_errors(self):
+        for place, node in nodes(ast.Raise):
+            self.assertIsInstance(node.exc, ast.Call, place)
+        for place, node in nodes(ast.Try):
+            self.assertEqual((node.finalbody, len(node.handlers)), ([], 1), place)
+            taken = node.handlers[0].type.id
+            self.assertNotIn(taken, ("Exception", "TypeError", "IndexError", "LookupError"), place)
+            if taken == "ValueError":
+                calls = [called(part) for row in node.body for part in ast.walk(row) if isinstance(part, ast.Call)]
+                self.assertEqual((len(node.body), calls), (1, ["int"]), place)
+
+    def test_is_stands_beside_plain_values(self):
+        for place, node in nodes(ast.Compare):
+            if isinstance(node.ops[0], (ast.Is, ast.IsNot)):
+                self.assertIsInstance(node.comparators[0], ast.Constant, place)
+                self.assertIn(node.comparators[0].value, (None, True, False), place)
+
+    def test_walked_at_once(self):
+        walked = []
+        for place, node in nodes(ast.For, ast.comprehension):
+            walked.append(node.iter)
+        for place, node in nodes(ast.Call):
+            if called(node) in WALKERS:
+                walked.extend(node.args)
+        many = [node for place, node in nodes(ast.Call) if called(node) in WALKED]
+        self.assertEqual(len(many), len([node for node in walked if called(node) in WALKED]))
+
+    def test_texts(self):
+        for place, node in nodes(ast.Constant):
+            if isinstance(node.value, str):
+                self.assertNotIn("%", node.value, place)
+        for place, node in nodes(ast.FormattedValue):
+            self.assertIsInstance(node.value, ast.Name, place)
+            self.assertIsNone(node.format_spec, place)
 
 
 if __name__ == "__main__":

@@ -3,13 +3,9 @@
 import unittest
 from copy import deepcopy
 
+from drawn import table
 from hoistworks.errors import NoBody, NoHoist, NoRope, TooMany
 from hoistworks.hoist import Hoist, beside, without
-
-
-def table(hoist):
-    bodies = range(len(hoist.weights()))
-    return [[hoist.strands(rope, body) for body in bodies] for rope in range(hoist.many_ropes())]
 
 
 def plain(bodies, ropes):
